@@ -1,0 +1,1 @@
+"""Lendback: a borrow checker, and two machines that agree."""
