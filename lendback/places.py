@@ -41,6 +41,12 @@ def crossed(place, *, records, kinds):
     return None
 
 
+def crosses_shared(place, *, records, kinds):
+    """True if a place crosses a shared borrow. Raises what kind_at raises."""
+    leaf = crossed(place, records=records, kinds=kinds)
+    return leaf is not None and kind_at(leaf, records=records, kinds=kinds)[0] == "shared"
+
+
 def place_leaves(place, *, records, kinds):
     """The leaves of a place, as places, in their order. Raises what kind_at raises."""
     variable, steps = place

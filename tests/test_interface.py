@@ -5,10 +5,14 @@ import importlib
 import inspect
 import unittest
 
-from lendback.errors import NoSuchStep, SyntaxProblem
+from lendback.errors import KindProblem, NoSuchStep, SyntaxProblem
+from lendback.graph import build_graph
+from lendback.kinding import check_kinds
 from lendback.kinds import is_copy, kind_after, leaves
+from lendback.layout import size
 from lendback.parser import parse_program
 from lendback.places import crossed
+from lendback.writer import write_program
 
 INTERFACE = {
     "errors": {
@@ -25,6 +29,14 @@ INTERFACE = {
         "crossed": "(place, *, records, kinds)",
     },
     "parser": {"parse_program": "(text)"},
+    "writer": {"write_program": "(program)"},
+    "kinding": {"check_kinds": "(program)"},
+    "graph": {"Graph": None, "build_graph": "(program, name)"},
+    "effects": {
+        "loans": "(program, graph)", "uses": "(program, graph, point)", "clears": "(program, graph, point)",
+        "access": "(program, graph, point)", "moves": "(program, graph, point)", "conflicts": "(access, loan, crossing)",
+    },
+    "layout": {"size": "(records, kind)"},
 }
 
 
@@ -66,9 +78,48 @@ class Examples(unittest.TestCase):
             parse_program("fn main() -> unit {\n  print 1\n}")
         self.assertEqual((caught.exception.line, caught.exception.column), (3, 1))
 
+    def test_write_program(self):
+        records = (("Pair", (("a", ("int",)), ("b", ("box", ("int",))))),)
+        self.assertEqual(write_program((records, ())), "record Pair { a: int, b: box int }\n")
+        block = (("store", ("r", ("^",)), ("int", -5)),)
+        functions = (("f", (("r", ("exclusive", ("int",))),), ("unit",), (), block),)
+        self.assertEqual(write_program(((), functions)), "fn f(r: &mut int) -> unit {\n    r^ = -5;\n}\n")
+
+    def test_check_kinds(self):
+        for text, reason in (
+            ("fn main() -> int { let x = 1; return (x + y); }", "unknown"),
+            ("fn main() -> unit { let b = box box 1; do b^; }", "move"),
+        ):
+            with self.assertRaises(KindProblem) as caught:
+                check_kinds(parse_program(text))
+            self.assertEqual((caught.exception.where, caught.exception.reason), ("main", reason))
+
+    def test_build_graph(self):
+        graph = build_graph(parse_program("fn main(n: int) -> unit { print n; }"), "main")
+        self.assertEqual(repr([graph.points, graph.successors]),
+                         "[[('copy', '#0', ('n', ())), ('print', '#0'), ('set', '#1', ('unit',)), ('drop', 'n'), "
+                         "('leave', '#1')], [(1,), (2,), (3,), (4,), ()]]")
+
+    def test_size(self):
+        kind = ("tuple", (("int",), ("maybe", ("bool",)), ("box", ("tuple", (("int",), ("int",))))))
+        self.assertEqual(size((), kind), 4)
+
+    def test_the_programs_of_the_examples_pass(self):
+        heads = "fn first(a: &int, b: &int) -> &int from a { return a; }\n"
+        for text in (
+            heads + "fn main() -> int { let x = 1; let y = 2; let r = first(&x, &y); y = 5; return r^; }\n",
+            heads + "fn main() -> int { let x = 1; let y = 2; let r = first(&x, &y); x = 5; return r^; }\n",
+            "fn f(a: &int) -> &int from a { return a; } fn main() -> unit { }",
+            "fn main(n: int) -> int { let s = 0; while (0 < n) { s = (s + n); print s; n = (n - 1); } return s; }",
+            "fn main() -> int { let m = none[int]; return m?; }", "fn main() -> box int { return box 7; }",
+        ):
+            self.assertIsNone(check_kinds(parse_program(text)))
+
     def test_the_program_of_section_49(self):
         text = "fn main(a: int) -> int {\n    let x = (a, 2);\n    let r = &mut x.0;\n    r^ = 5;\n" \
             "    print x.0;\n    return x.1;\n}\n"
+        self.assertEqual(write_program(parse_program(text)), text)
+        self.assertIsNone(check_kinds(parse_program(text)))
         self.assertEqual(parse_program(text), ((), (("main", (("a", ("int",)),), ("int",), (), (
             ("let", "x", ("tuple", (("use", ("a", ())), ("int", 2)))),
             ("let", "r", ("borrow", "exclusive", ("x", (0,)))),

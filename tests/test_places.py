@@ -2,7 +2,7 @@ import collections
 import unittest
 
 from lendback.errors import NoSuchStep, NoSuchVariable
-from lendback.places import crossed, is_prefix, kind_at, overlap, place_leaves
+from lendback.places import crossed, crosses_shared, is_prefix, kind_at, overlap, place_leaves
 
 INT, BOOL = ("int",), ("bool",)
 NODE = ("record", "Node")
@@ -69,7 +69,7 @@ class KindAt(unittest.TestCase):
 
     def test_no_such_variable(self):
         for place in (("y", ()), ("y", (7, "^")), ("N", ()), ("", ()), ("#1", ("?",))):
-            for ask in (kind_at, crossed, place_leaves):
+            for ask in (kind_at, crossed, crosses_shared, place_leaves):
                 with self.assertRaises(NoSuchVariable):
                     ask(place, records=RECORDS, kinds=KINDS)
         with self.assertRaises(NoSuchVariable):
@@ -82,7 +82,7 @@ class KindAt(unittest.TestCase):
                 with self.assertRaises(NoSuchStep):
                     kind_at(place, records=RECORDS, kinds=KINDS)
         for place in (("x", ("^",)), ("p", (0,)), ("p", ("^", 2)), ("p", ("^", -1)), ("m", (3,)), ("m", (0, 0))):
-            for ask in (kind_at, crossed, place_leaves):
+            for ask in (kind_at, crossed, crosses_shared, place_leaves):
                 with self.assertRaises(NoSuchStep):
                     ask(place, records=RECORDS, kinds=KINDS)
 
@@ -94,7 +94,7 @@ class KindAt(unittest.TestCase):
     def test_the_dict_stays_as_it_was(self):
         kinds = collections.defaultdict(lambda: INT, KINDS)
         for place in (("n", LONG), ("m", (1, "^")), ("y", ()), ("x", ("^",))):
-            for ask in (kind_at, crossed, place_leaves):
+            for ask in (kind_at, crossed, crosses_shared, place_leaves):
                 try:
                     ask(place, records=RECORDS, kinds=kinds)
                 except (NoSuchVariable, NoSuchStep):
@@ -125,6 +125,17 @@ class Crossed(unittest.TestCase):
     def test_boxes_behind_the_borrow_do_not_count(self):
         self.crosses(("m", (1, "^", 0, "^")), ("m", (1,)))
         self.crosses(("r", ("^",) + LONG[:11]), ("r", ()))
+
+
+class CrossesShared(unittest.TestCase):
+    def test_only_a_shared_borrow_that_is_crossed_counts(self):
+        cases = (
+            (("p", ()), False), (("p", ("^",)), True), (("p", ("^", 1)), True), (("r", ()), False), (("r", ("^",)), False),
+            (("r", ("^", "next", "?", "^")), False), (("m", (1,)), False), (("m", (1, "^")), True), (("m", (1, "^", 0, "^")), True),
+            (("m", (0, "?", 0, "^")), False), (("m", (2, "^", "^")), False), (("n", LONG), False), (("x", ()), False),
+        )
+        for place, answer in cases:
+            self.assertIs(crosses_shared(place, records=RECORDS, kinds=KINDS), answer)
 
 
 class PlaceLeaves(unittest.TestCase):

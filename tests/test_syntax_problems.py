@@ -3,6 +3,7 @@ import unittest
 
 from lendback.errors import SyntaxProblem
 from lendback.parser import parse_program
+from lendback.writer import write_program
 from tests.grammar import RESERVED, SIGNS, TOKEN, expected_problem, place_behind
 from tests.trees import Maker, loose, program_tokens, tight
 
@@ -233,4 +234,28 @@ class RandomTexts(Problems):
                 found = expected_problem(text)
                 self.assertEqual(problem(text), found, text)
                 programs += found is None
+        self.assertGreater(programs, 10)
+
+    def slipped(self, text, chance):
+        """The text with a token that is replaced, put in, left out or doubled; what stands around stays."""
+        words = RESERVED + SIGNS + list(WRONG_WORDS + OTHER_WORDS)
+        found = chance.choice(list(TOKEN.finditer(text)))
+        word, other = found.group(), chance.choice(words)
+        new = chance.choice((other, word + " " + other, other + " " + word, "", word + " " + word, word + word))
+        return text[:found.start()] + new + text[found.end():]
+
+    def test_written_texts_with_slips(self):
+        programs = 0
+        for seed in range(150):
+            text = write_program(Maker(seed).program())
+            chance = random.Random(seed)
+            for turn in range(8 if 0 < len(text) < 2000 else 0):
+                changed = text
+                for _ in range(1 + turn // 3):
+                    changed = self.slipped(changed, chance)
+                found = expected_problem(changed)
+                self.assertEqual(problem(changed), found, changed)
+                if found is None:
+                    programs += 1
+                    self.assertEqual(parse_program(write_program(parse_program(changed))), parse_program(changed))
         self.assertGreater(programs, 10)
