@@ -5,13 +5,19 @@ import importlib
 import inspect
 import unittest
 
+from lendback.checker import check_program
 from lendback.errors import KindProblem, NoSuchStep, SyntaxProblem
 from lendback.graph import build_graph
 from lendback.kinding import check_kinds
 from lendback.kinds import is_copy, kind_after, leaves
 from lendback.layout import size
+from lendback.marks import first_marks, new_marks, pass_mark, problems
+from lendback.memory import Memory
+from lendback.memorymachine import run_memory, trace_memory
 from lendback.parser import parse_program
 from lendback.places import crossed
+from lendback.project import Project
+from lendback.valuemachine import run_values
 from lendback.writer import write_program
 
 INTERFACE = {
@@ -36,8 +42,30 @@ INTERFACE = {
         "loans": "(program, graph)", "uses": "(program, graph, point)", "clears": "(program, graph, point)",
         "access": "(program, graph, point)", "moves": "(program, graph, point)", "conflicts": "(access, loan, crossing)",
     },
-    "layout": {"size": "(records, kind)"},
+    "marks": {
+        "first_marks": "(program, graph)", "pass_mark": "(program, graph, point, mark)",
+        "new_marks": "(program, graph, point)", "problems": "(program, graph, point, mark)",
+    },
+    "search": {"shortest": "(start, following, wanted)"},
+    "checker": {"check_function": "(program, name)", "check_program": "(program)"},
+    "valuemachine": {"run_values": "(program, arguments, limit)"},
+    "memory": {"Memory": "()"},
+    "layout": {"size": "(records, kind)", "offset": "(records, kind, step)", "frame": "(program, graph)"},
+    "memorymachine": {
+        "run_memory": "(program, arguments, limit)", "trace_memory": "(program, arguments, limit)",
+    },
+    "project": {"Project": "(program)"},
 }
+METHODS = {
+    Memory: {
+        "allocate": "(self, size)", "release": "(self, address)", "read": "(self, address)",
+        "write": "(self, address, number)", "blocks": "(self)",
+    },
+    Project: {"replace": "(self, function)", "verdict": "(self, name)", "checked": "(self)", "program": "(self)"},
+}
+FIRST = "fn first(a: &int, b: &int) -> &int from a { return a; }\n"
+USE_OF_FIRST = "fn main() -> int { let x = 1; let y = 2; let r = first(&x, &y); %s = 5; return r^; }\n"
+LOOP = "fn main(n: int) -> int { let s = 0; while (0 < n) { s = (s + n); print s; n = (n - 1); } return s; }"
 
 
 class Names(unittest.TestCase):
@@ -50,6 +78,11 @@ class Names(unittest.TestCase):
                 self.assertEqual(found.__qualname__, name)
                 if arguments is not None:
                     self.assertEqual(str(inspect.signature(found)), arguments)
+
+    def test_each_method_is_defined_in_its_class(self):
+        for found, methods in METHODS.items():
+            for name, arguments in methods.items():
+                self.assertEqual(str(inspect.signature(vars(found)[name])), arguments)
 
 
 class Examples(unittest.TestCase):
@@ -104,20 +137,84 @@ class Examples(unittest.TestCase):
         kind = ("tuple", (("int",), ("maybe", ("bool",)), ("box", ("tuple", (("int",), ("int",))))))
         self.assertEqual(size((), kind), 4)
 
+    def test_first_marks(self):
+        program = parse_program("fn f(a: &int) -> &int from a { return a; } fn main() -> unit { }")
+        self.assertEqual(repr(first_marks(program, build_graph(program, "f"))), "[('loan', ('a', ()), 'a', 'alive')]")
+
+    def test_check_program(self):
+        self.assertIsNone(check_program(parse_program(FIRST + USE_OF_FIRST % "y")))
+        found = check_program(parse_program(FIRST + USE_OF_FIRST % "x"))
+        self.assertEqual(repr(found), "('main', 'dead', (0, 1, 2, 3, 4, 5, 6, 7, 8, 9, 10))")
+
+    def test_run_values(self):
+        for text, arguments, limit, found in (
+            (FIRST + USE_OF_FIRST % "y", (), 100, "(('returned', ('int', 1)), ())"), (LOOP, (3,), 16, "(('running',), (3,))"),
+            ("fn main() -> int { let m = none[int]; return m?; }", (), 100, "(('stopped', 'empty'), ())"),
+        ):
+            self.assertEqual(repr(run_values(parse_program(text), arguments, limit)), found)
+
+    def test_memory(self):
+        m = Memory()
+        a = m.allocate(2)
+        b = m.allocate(1)
+        m.release(a)
+        c = m.allocate(3)
+        self.assertEqual(repr([a, b, c, m.blocks()]), "[1, 3, 4, [(3, 1), (4, 3)]]")
+
+    def test_run_memory_and_trace_memory(self):
+        self.assertEqual(repr(run_memory(parse_program(LOOP), (3,), 1000)), "(('returned', ('int', 6)), (3, 5, 6))")
+        found = trace_memory(parse_program("fn main() -> box int { return box 7; }"), (), 100)
+        self.assertEqual(repr(found), "(('allocate', 1, 2), ('allocate', 3, 1), ('release', 1))")
+
+    def test_project(self):
+        project = Project(parse_program(FIRST + USE_OF_FIRST % "y"))
+        before = project.verdict("main")
+        other = parse_program("fn first(a: &int, b: &int) -> &int from b { return b; }")
+        project.replace(other[1][0])
+        self.assertEqual(repr([before, project.verdict("main"), project.checked()]),
+                         "[None, ('dead', (0, 1, 2, 3, 4, 5, 6, 7, 8, 9, 10)), 2]")
+
     def test_the_programs_of_the_examples_pass(self):
-        heads = "fn first(a: &int, b: &int) -> &int from a { return a; }\n"
         for text in (
-            heads + "fn main() -> int { let x = 1; let y = 2; let r = first(&x, &y); y = 5; return r^; }\n",
-            heads + "fn main() -> int { let x = 1; let y = 2; let r = first(&x, &y); x = 5; return r^; }\n",
+            FIRST + USE_OF_FIRST % "y", FIRST + USE_OF_FIRST % "x", LOOP,
             "fn f(a: &int) -> &int from a { return a; } fn main() -> unit { }",
-            "fn main(n: int) -> int { let s = 0; while (0 < n) { s = (s + n); print s; n = (n - 1); } return s; }",
             "fn main() -> int { let m = none[int]; return m?; }", "fn main() -> box int { return box 7; }",
         ):
             self.assertIsNone(check_kinds(parse_program(text)))
 
-    def test_the_program_of_section_49(self):
-        text = "fn main(a: int) -> int {\n    let x = (a, 2);\n    let r = &mut x.0;\n    r^ = 5;\n" \
-            "    print x.0;\n    return x.1;\n}\n"
+
+class Section49(unittest.TestCase):
+    TEXT = "fn main(a: int) -> int {\n    let x = (a, 2);\n    let r = &mut x.0;\n    r^ = 5;\n    print x.0;\n    return x.1;\n}\n"
+
+    def test_marks(self):
+        program = parse_program(self.TEXT)
+        graph = build_graph(program, "main")
+        mark = ("loan", ("#3", ()), 4, "alive")
+        self.assertEqual(new_marks(program, graph, 4), [mark])
+        (mark,) = pass_mark(program, graph, 5, mark)
+        self.assertEqual(mark, ("loan", ("r", ()), 4, "alive"))
+        for point in (6, 7):
+            self.assertEqual(pass_mark(program, graph, point, mark), [mark])
+        (mark,) = pass_mark(program, graph, 8, mark)
+        self.assertEqual(mark, ("loan", ("r", ()), 4, "dead"))
+        for point in range(9, 18):
+            self.assertIsNone(problems(program, graph, point, mark))
+        self.assertEqual(pass_mark(program, graph, 11, mark), [])
+
+    def test_runs(self):
+        program = parse_program(self.TEXT)
+        self.assertIsNone(check_program(program))
+        for run in (run_values, run_memory):
+            self.assertEqual(run(program, (3,), 14), (("running",), (5,)))
+            self.assertEqual(run(program, (3,), 15), (("returned", ("int", 2)), (5,)))
+
+    def test_a_later_use_of_the_borrow(self):
+        program = parse_program(self.TEXT.replace("print x.0;", "print x.0; print r^;"))
+        self.assertEqual(build_graph(program, "main").points[10], ("copy", "#6", ("r", ("^",))))
+        self.assertEqual(check_program(program), ("main", "dead", (0, 1, 2, 3, 4, 5, 6, 7, 8, 9, 10)))
+
+    def test_the_tree(self):
+        text = self.TEXT
         self.assertEqual(write_program(parse_program(text)), text)
         self.assertIsNone(check_kinds(parse_program(text)))
         self.assertEqual(parse_program(text), ((), (("main", (("a", ("int",)),), ("int",), (), (

@@ -53,6 +53,15 @@ def imported_names(tree):
     return [part.asname or part.name for node in tree.body if isinstance(node, ast.ImportFrom) for part in node.names]
 
 
+def code_of(path):
+    """The code of a file without comments and docstrings, in which any words may stand."""
+    tree = ast.parse(path.read_text())
+    for node in ast.walk(tree):
+        if isinstance(node, (ast.Module, ast.FunctionDef, ast.ClassDef)) and ast.get_docstring(node) is not None:
+            node.body[0] = ast.Pass()
+    return ast.unparse(tree)
+
+
 def is_builtin(name):
     return hasattr(builtins, name) and not name.startswith("__")
 
@@ -75,7 +84,7 @@ class Files(unittest.TestCase):
 
     def test_words(self):
         for path in FILES:
-            words = re.findall(r"\w+", path.read_text())
+            words = re.findall(r"\w+", code_of(path))
             self.assertEqual([word for word in BARRED_WORDS if word in words], [], path)
             self.assertNotRegex(path.read_text(), "dataclass|overload|contextmanager|_wall")
 
